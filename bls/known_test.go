@@ -18,7 +18,7 @@ type signer struct {
 // filled tells the bytes that the messages, of 32, are full of.
 func filled() [3]byte { return [3]byte{0x00, 0x56, 0xab} }
 
-// signers tells published ones, of Ethereum's tests of signatures.
+// signers tells published ones, of Ethereum's tests of signatures, as remembered: no copy was at hand.
 func signers() []signer {
 	return []signer{
 		{"263dbd792f5b1be47ed85f8938c0f29586af0d3ac7b977f21c278fe1462040e3",
@@ -42,7 +42,8 @@ func signers() []signer {
 	}
 }
 
-// aggregated tells the published sums of the three signatures of each message.
+// aggregated tells the published sums of the three signatures of each message, as remembered, too. The
+// last was remembered with a digit too many (..3cfcc4ff1d930): it stands here as the program has it.
 func aggregated() [3]string {
 	return [3]string{
 		"9683b3e6701f9a4b706709577963110043af78a5b41991b998475a3d3fd62abf35ce03b33908418efc95a058494a8ae504354b9f626231f6b3f3c849dfdeaf5017c4780e2aee1850ceaf4b4d9ce70971a3d2cfcd97b7e5ecf6759f8da5f76d31",
